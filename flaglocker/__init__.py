@@ -1,0 +1,1 @@
+"""Flaglocker: a signal tower, few flags, and what can hang at once."""
