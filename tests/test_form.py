@@ -101,6 +101,8 @@ def function_faults(node):
         faults.append("L4: a function that is not plain")
     if node.returns:
         faults.append("L21: an annotation")
+    if any(isinstance(part, ast.Expr) and not isinstance(part.value, ast.Call) for part in ast.walk(node)):
+        faults.append("L6: a value by itself that is no call")
     return faults
 
 
@@ -194,6 +196,7 @@ class Form(unittest.TestCase):
             "def f(x):\n    return open(x)", "def f(_x):\n    pass", "# the Flag\n", "# a\tb\n", "A = '\u00e4'",
             "A = '%'", "class C:\n    a = 1", "def f():\n" + "    pass\n" * 40, "# " + "a" * 119, "\n" * 401,
             "def f(x):\n    return x is 7 and x is f", "def f(x):\n    a = b = x", "def f(x):\n    a, *b = x",
+            "def f(x):\n    'some words'", "def f(x):\n    x",
             "def f():\n    try:\n        f()\n    except Exception:\n        pass",
         ]
         for source in outside:

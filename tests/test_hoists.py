@@ -3,6 +3,7 @@
 import itertools
 import unittest
 
+from counting import choices_for
 from flaglocker.errors import NoHoist, TowerError
 from flaglocker.flags import FLAGS, is_word
 from flaglocker.hoists import is_hoist, read_of
@@ -20,11 +21,7 @@ def place_read(flags, place):
 
 def hoists_for(word):
     """All lists of flags that hang one of its choices at each place of the word."""
-    choices = []
-    for place, letter in enumerate(word, start=1):
-        above = [n for n in (1, 2, 3, 4) if n < place and word[n - 1] == letter]
-        choices.append([letter] + [str(n) for n in above])
-    return [list(flags) for flags in itertools.product(*choices)]
+    return [list(flags) for flags in itertools.product(*choices_for(word))]
 
 
 class HoistCase(unittest.TestCase):

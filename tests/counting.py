@@ -1,0 +1,89 @@
+"""What the points say of choices, hanging and lacks, counted anew for the tests, without the package."""
+
+import itertools
+from collections import Counter
+
+FLAGS = "abcdefghijklmnopqrstuvw1234"
+
+
+def choices_for(word):
+    """For each place of a word, from 1 on, the list of its choices."""
+    choices = []
+    for place, letter in enumerate(word, start=1):
+        above = [n for n in (1, 2, 3, 4) if n < place and word[n - 1] == letter]
+        choices.append([letter] + [str(n) for n in above])
+    return choices
+
+
+def places_of(words):
+    return [(number, place) for number, word in enumerate(words) for place in range(1, len(word) + 1)]
+
+
+def needs_of(words):
+    """All that the words can need, each as a dict of flags and numbers, found by going through all choices."""
+    choices = [some for word in words for some in choices_for(word)]
+    needs = {tuple(sorted(flags)) for flags in itertools.product(*choices)}
+    return [Counter(flags) for flags in sorted(needs)]
+
+
+def is_in(need, locker):
+    return all(locker.get(flag, 0) >= many for flag, many in need.items())
+
+
+def hangs(locker, words):
+    return any(is_in(need, locker) for need in needs_of(words))
+
+
+def reads_to(flags, word):
+    """A hoist reads to a word just where at each place hangs one of its choices."""
+    if not 1 <= len(word) <= 7 or len(flags) != len(word):
+        return False
+    return all(flag in choices for flag, choices in zip(flags, choices_for(word), strict=True))
+
+
+def hung_by_count(locker, words, hoists):
+    if len(hoists) != len(words):
+        return False
+    if not all(reads_to(hoist, word) for hoist, word in zip(hoists, words, strict=True)):
+        return False
+    return is_in(Counter(flag for hoist in hoists for flag in hoist), locker)
+
+
+def lack_by_count(locker, words, wants, flags):
+    if len(set(wants)) != len(wants) or len(set(flags)) != len(flags):
+        return False
+    if any(want not in places_of(words) for want in wants) or not set(flags) <= set(FLAGS):
+        return False
+    for number, place in wants:
+        if not set(choices_for(words[number])[place - 1]) <= set(flags):
+            return False
+    return len(wants) > sum(locker.get(flag, 0) for flag in flags)
+
+
+def lockers_of(most):
+    """All lockers with 0 up to the number told of each flag told."""
+    for numbers in itertools.product(*[range(many + 1) for many in most.values()]):
+        yield dict(zip(most, numbers, strict=True))
+
+
+def words_of(letters, longest):
+    for many in range(1, longest + 1):
+        for signs in itertools.product(letters, repeat=many):
+            yield "".join(signs)
+
+
+def check_lack(case, locker, words, wants, flags):
+    """Point 13, sentence by sentence."""
+    told = (locker, words, wants, flags)
+    case.assertIs(type(wants), list, told)
+    case.assertIs(type(flags), list, told)
+    for want in wants:
+        case.assertIs(type(want), tuple, told)
+        case.assertEqual([type(part) for part in want], [int, int], told)
+        case.assertIn(want, places_of(words), told)
+    case.assertEqual(wants, [want for want in places_of(words) if want in wants], told)
+    case.assertEqual(flags, [flag for flag in FLAGS if flag in flags], told)
+    for number, place in wants:
+        for choice in choices_for(words[number])[place - 1]:
+            case.assertIn(choice, flags, told)
+    case.assertGreater(len(wants), sum(locker.get(flag, 0) for flag in flags), told)
