@@ -21,8 +21,10 @@ def places_of(words):
 
 def needs_of(words):
     """All that the words can need, each as a dict of flags and numbers, found by going through all choices."""
-    choices = [some for word in words for some in choices_for(word)]
-    needs = {tuple(sorted(flags)) for flags in itertools.product(*choices)}
+    needs = {()}
+    for choices in [some for word in words for some in choices_for(word)]:
+        # Two ways that need the same so far go on alike, so one of them is enough.
+        needs = {tuple(sorted(need + (flag,))) for need in needs for flag in choices}
     return [Counter(flags) for flags in sorted(needs)]
 
 
@@ -32,6 +34,18 @@ def is_in(need, locker):
 
 def hangs(locker, words):
     return any(is_in(need, locker) for need in needs_of(words))
+
+
+def place_read(flags, place):
+    """What the document says of a place, followed from below; None where it leads to nothing."""
+    flag = flags[place - 1]
+    if flag not in "1234":
+        return flag
+    return place_read(flags, int(flag)) if int(flag) < place else None
+
+
+def word_of(hoist):
+    return "".join(place_read(hoist, place) for place in range(1, len(hoist) + 1))
 
 
 def reads_to(flags, word):

@@ -3,20 +3,12 @@
 import itertools
 import unittest
 
-from counting import choices_for
+from counting import choices_for, place_read
 from flaglocker.errors import NoHoist, TowerError
 from flaglocker.flags import FLAGS, is_word
 from flaglocker.hoists import is_hoist, read_of
 
 LETTERS = "abcdefghijklmnopqrstuvw"
-
-
-def place_read(flags, place):
-    """What the document says of a place, followed from below; None where it leads to nothing."""
-    flag = flags[place - 1]
-    if flag in LETTERS:
-        return flag
-    return place_read(flags, int(flag)) if int(flag) < place else None
 
 
 def hoists_for(word):
