@@ -22,3 +22,7 @@ def hidden_letter(letters):
 
 def check_of(word):
     return hidden_letter(list(word) + [None])
+
+
+def with_check(word):
+    return word + check_of(word)

@@ -6,6 +6,8 @@ from flaglocker.hanging import hang_all, lack_of
 from flaglocker.hoists import read_of
 from flaglocker.lockers import put_in, taken
 
+MOST_HALYARDS = 6
+
 
 def others_hung(halyards, number):
     return [other for other, hoist in enumerate(halyards) if hoist is not None and other != number]

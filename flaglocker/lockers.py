@@ -3,6 +3,8 @@
 from flaglocker.errors import Short
 from flaglocker.flags import FLAGS
 
+MOST_OF_A_FLAG = 99
+
 
 def plain_locker(locker):
     # Along FLAGS, so that alike lockers are told in one order, however they came.

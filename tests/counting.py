@@ -1,8 +1,10 @@
-"""What the points say of choices, hanging and lacks, counted anew for the tests, without the package."""
+"""What the points say of hanging, halyards, checks and cuts, counted anew for the tests, without the package."""
 
 import itertools
+import string
 from collections import Counter
 
+LETTERS = "abcdefghijklmnopqrstuvw"
 FLAGS = "abcdefghijklmnopqrstuvw1234"
 
 
@@ -84,6 +86,99 @@ def words_of(letters, longest):
     for many in range(1, longest + 1):
         for signs in itertools.product(letters, repeat=many):
             yield "".join(signs)
+
+
+def checked_by_count(word):
+    total = 0
+    for place in range(1, len(word) + 1):
+        total += place * LETTERS.index(word[place - 1])
+    return len(word) >= 2 and total in range(0, 10000, 23)
+
+
+def checked_from(word):
+    """The checked word, with its check letter found by trying all of them."""
+    return [word + letter for letter in LETTERS if checked_by_count(word + letter)][0]
+
+
+def sets_of_others(halyards, number):
+    """All sets of other halyards with hoists, smaller ones first, then as Python compares lists."""
+    others = [other for other in range(len(halyards)) if other != number and halyards[other] is not None]
+    lists = [list(some) for many in range(len(others) + 1) for some in itertools.combinations(others, many)]
+    return sorted(lists, key=lambda some: (len(some), some))
+
+
+def flags_in_all(locker, halyards):
+    many = Counter(flag for hoist in halyards if hoist is not None for flag in hoist)
+    many.update(locker)
+    return {flag: many[flag] for flag in FLAGS if many[flag] > 0}
+
+
+def flags_due(locker, halyards, deed):
+    """As many flags in all as there are to be behind a deed that is done."""
+    many = Counter(flags_in_all(locker, halyards))
+    many.update({"lose": {deed[1]: -1}, "find": {deed[1]: 1}}.get(deed[0], {}))
+    return {flag: many[flag] for flag in FLAGS if many[flag] > 0}
+
+
+def tried(locker, halyards, number, word, lowered):
+    """The locker and the words that point 19 names for a set."""
+    down = [halyards[other] for other in [number] + lowered]
+    words = [word] + [word_of(halyards[other]) for other in lowered]
+    return flags_in_all(locker, down), words
+
+
+def sought(locker, halyards, number, word):
+    """The least set that does, sought through all sets and all choices; None where there is none."""
+    for lowered in sets_of_others(halyards, number):
+        if hangs(*tried(locker, halyards, number, word, lowered)):
+            return lowered
+    return None
+
+
+def hoist_by_chance(chance, word):
+    return [chance.choice(choices) for choices in choices_for(word)]
+
+
+def hidden_in(chance, hoist):
+    """A sight of the hoist, with some places hidden by chance."""
+    return [None if chance.randrange(3) == 0 else flag for flag in hoist]
+
+
+def book_of(many):
+    """So many unlike words of one to six letters, with unlike meanings of one to five terms."""
+    return [(word_at(at), " ".join([meant_at(at)] + ["more"] * (at % 5))) for at in range(many)]
+
+
+def word_at(at):
+    return (LETTERS[at % 23] + LETTERS[at // 23] + "wvut")[:max(2, at % 6 + 1)]
+
+
+def meant_at(at):
+    return (string.ascii_lowercase[at % 26] + string.ascii_lowercase[at // 26] + "abcdefgh")[:at % 9 + 2]
+
+
+def all_cuts(book, terms):
+    """All lists of numbers whose meanings, one behind the other, are the terms."""
+    if not terms:
+        return [[]]
+    cuts = []
+    for number, (word, meaning) in enumerate(book):
+        part = meaning.split(" ")
+        if part == terms[:len(part)]:
+            cuts += [[number] + rest for rest in all_cuts(book, terms[len(part):])]
+    return cuts
+
+
+def best_cut(book, cuts):
+    """Of the shortest the one with the longer meaning at the first place where two differ."""
+    fewest = min(len(cut) for cut in cuts)
+    shortest = [cut for cut in cuts if len(cut) == fewest]
+    best = shortest[0]
+    for cut in shortest[1:]:
+        at = [one == other for one, other in zip(cut, best)].index(False)
+        if len(book[cut[at]][1].split(" ")) > len(book[best[at]][1].split(" ")):
+            best = cut
+    return best
 
 
 def check_lack(case, locker, words, wants, flags):

@@ -4,28 +4,15 @@ import copy
 import string
 import unittest
 
+from counting import LETTERS, book_of
 from flaglocker.books import look_at, text_said
 from flaglocker.errors import NoBook, NoWord, TowerError
 
-LETTERS = "abcdefghijklmnopqrstuvw"
 NO_WORDS = ("", "abcdefg", "aaaaaaaaa", "x", "y", "z", "abx", "xab", "A", "aB", "1", "a1", " ", "a b", "ab ", "a\n",
             "-", "\u00e4", "\u0430")
 NO_MEANINGS = ("", " ", "  ", "a b c d e f", "a b c d e f g", "a" * 11, "b " + "a" * 11, "a" * 11 + " b", "A", "Go",
                "gO", "go North", "go  north", " go", "go ", "go north ", "go\tnorth", "go\nnorth", "go\n", "go-north",
                "go1", "1", "go, north", "\u00e4", "a\u00a0b", "\u0430")
-
-
-def book_of(many):
-    """So many unlike words of one to six letters, with unlike meanings of one to five terms."""
-    return [(word_at(at), " ".join([meant_at(at)] + ["more"] * (at % 5))) for at in range(many)]
-
-
-def word_at(at):
-    return (LETTERS[at % 23] + LETTERS[at // 23] + "wvut")[:max(2, at % 6 + 1)]
-
-
-def meant_at(at):
-    return (string.ascii_lowercase[at % 26] + string.ascii_lowercase[at // 26] + "abcdefgh")[:at % 9 + 2]
 
 
 def pairs_of_places():

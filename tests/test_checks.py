@@ -4,17 +4,8 @@ import itertools
 import random
 import unittest
 
-from counting import words_of
+from counting import LETTERS, checked_by_count, words_of
 from flaglocker.checks import check_of, hidden_letter, is_checked
-
-LETTERS = "abcdefghijklmnopqrstuvw"
-
-
-def checked_by_count(word):
-    total = 0
-    for place in range(1, len(word) + 1):
-        total += place * LETTERS.index(word[place - 1])
-    return len(word) >= 2 and total in range(0, 10000, 23)
 
 
 def words_by_chance(seed, many, fewest, longest):

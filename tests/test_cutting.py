@@ -5,7 +5,7 @@ import itertools
 import random
 import unittest
 
-from counting import words_of
+from counting import all_cuts, best_cut, words_of
 from flaglocker.books import look_at, text_said
 from flaglocker.cutting import cut_table, cut_text
 from flaglocker.errors import NoCut, NoText, TowerError
@@ -22,30 +22,6 @@ def book_of(*meanings):
     """A book of these meanings, each with a word of its own."""
     words = words_of("abcdefghijklmnopqrstuvw", 2)
     return list(zip(words, meanings))
-
-
-def all_cuts(book, terms):
-    """All lists of numbers whose meanings, one behind the other, are the terms."""
-    if not terms:
-        return [[]]
-    cuts = []
-    for number, (word, meaning) in enumerate(book):
-        part = meaning.split(" ")
-        if part == terms[:len(part)]:
-            cuts += [[number] + rest for rest in all_cuts(book, terms[len(part):])]
-    return cuts
-
-
-def best_cut(book, cuts):
-    """Of the shortest the one with the longer meaning at the first place where two differ."""
-    fewest = min(len(cut) for cut in cuts)
-    shortest = [cut for cut in cuts if len(cut) == fewest]
-    best = shortest[0]
-    for cut in shortest[1:]:
-        at = [one == other for one, other in zip(cut, best)].index(False)
-        if len(book[cut[at]][1].split(" ")) > len(book[best[at]][1].split(" ")):
-            best = cut
-    return best
 
 
 class CuttingCase(unittest.TestCase):

@@ -18,6 +18,7 @@ METHODS = set(
     " items join keys ljust lower lstrip partition pop remove replace reverse rfind rjust rpartition rsplit rstrip"
     " setdefault split splitlines startswith strip update upper values zfill bit_length".split()
 )
+CHANGING = set("append clear extend insert pop remove reverse setdefault update".split())
 DUNDERS = {"__init__", "__eq__", "__repr__", "__str__", "__len__"}
 NOT_USED = set(
     "register mro elements open input version_info with_traceback add_note format format_map chr attrgetter breakpoint"
@@ -155,12 +156,59 @@ def value_faults(node):
 
 def form_faults(source):
     tree = ast.parse(source)
-    faults = text_faults(source) + top_faults(tree)
+    faults = text_faults(source) + top_faults(tree) + shadow_faults(tree) + change_faults(tree)
     for node in ast.walk(tree):
         if not isinstance(node, NODES):
             faults.append(f"L6, L7: {ast.dump(node)}")
         faults += statement_faults(node) + value_faults(node)
     return faults
+
+
+def shadow_faults(tree):
+    """L15: no parameter and no local is called like a class or an import of its file."""
+    taken = [alias.name for node in tree.body if isinstance(node, ast.ImportFrom) for alias in node.names]
+    taken += [node.name for node in tree.body if isinstance(node, ast.ClassDef)]
+    inside = [node for part in tree.body if not isinstance(part, ast.Assign) for node in ast.walk(part)]
+    bound = [node.arg for node in inside if isinstance(node, ast.arg)]
+    bound += [node.id for node in inside if isinstance(node, ast.Name) and isinstance(node.ctx, ast.Store)]
+    return [f"L15: {name} is a name of the file" for name in bound if name in taken]
+
+
+def walked_by(loop):
+    """What a loop walks, itself or through enumerate, zip, reversed, items and their like."""
+    walked = [loop.iter]
+    if isinstance(loop.iter, ast.Call):
+        walked += loop.iter.args
+        if isinstance(loop.iter.func, ast.Attribute):
+            walked.append(loop.iter.func.value)
+    return [ast.unparse(part) for part in walked]
+
+
+def changed_in(loop):
+    changed = []
+    for node in ast.walk(loop):
+        if isinstance(node, ast.Attribute) and node.attr in CHANGING:
+            changed.append(ast.unparse(node.value))
+        if isinstance(node, ast.Subscript) and isinstance(node.ctx, ast.Store):
+            changed.append(ast.unparse(node.value))
+    return changed
+
+
+def change_faults(tree):
+    faults = []
+    for loop in ast.walk(tree):
+        if isinstance(loop, ast.For) and set(walked_by(loop)) & set(changed_in(loop)):
+            faults.append("L23: what is walked is changed")
+    return faults
+
+
+def methods_and_values(trees):
+    """L18: the names of all methods of the package, and those of all values that its objects are given."""
+    nodes = [node for tree in trees for node in ast.walk(tree)]
+    methods = [part.name for node in nodes if isinstance(node, ast.ClassDef) for part in node.body
+               if isinstance(part, ast.FunctionDef)]
+    values = [node.attr for node in nodes if isinstance(node, ast.Attribute) and isinstance(node.ctx, ast.Store)]
+    return set(methods), set(values)
 
 
 def drawn_from(path):
@@ -187,6 +235,17 @@ class Form(unittest.TestCase):
             self.assertTrue(free, left)
             left = {name: drawn for name, drawn in left.items() if name not in free}
 
+    def test_no_name_is_a_method_and_a_value(self):
+        methods, values = methods_and_values([ast.parse(path.read_text()) for path in PACKAGE.glob("*.py")])
+        self.assertLess({"do", "halyards", "locker", "log", "read", "again", "say"}, methods)
+        self.assertLess({"flag", "wants", "flags", "at", "terms"}, values)
+        self.assertEqual(methods & values, set())
+
+    def test_no_value_of_an_object_is_called_like_one_of_pythons_own(self):
+        values = methods_and_values([ast.parse(path.read_text()) for path in PACKAGE.glob("*.py")])[1]
+        for kind in (str, int, list, dict, set, bytes, tuple):
+            self.assertEqual(values & set(dir(kind)), set())
+
     def test_what_is_out_is_found(self):
         outside = [
             "import os", "from os import path", "from . import flags", "from flaglocker.flags import *", "print(1)",
@@ -198,6 +257,10 @@ class Form(unittest.TestCase):
             "def f(x):\n    return x is 7 and x is f", "def f(x):\n    a = b = x", "def f(x):\n    a, *b = x",
             "def f(x):\n    'some words'", "def f(x):\n    x",
             "def f():\n    try:\n        f()\n    except Exception:\n        pass",
+            "from flaglocker.flags import is_flag\ndef f(is_flag):\n    pass",
+            "class C:\n    pass\ndef f():\n    C = 1",
+            "def f(x):\n    for y in x:\n        x.append(y)", "def f(x):\n    for y in x.items():\n        x.clear()",
+            "def f(x):\n    for y in enumerate(x):\n        x[0] = y",
         ]
         for source in outside:
             with self.subTest(source=source[:60]):

@@ -6,41 +6,10 @@ import random
 import unittest
 from collections import Counter
 
-from counting import FLAGS, check_lack, choices_for, hangs, lockers_of, reads_to, word_of, words_of
+from counting import FLAGS, check_lack, flags_in_all, hangs, hoist_by_chance, lockers_of, reads_to, sets_of_others
+from counting import sought, tried, word_of, words_of
 from flaglocker.errors import Lack, TowerError
 from flaglocker.halyards import hauled, hauling_papers
-
-
-def sets_of_others(halyards, number):
-    """All sets of other halyards with hoists, smaller ones first, then as Python compares lists."""
-    others = [other for other in range(len(halyards)) if other != number and halyards[other] is not None]
-    lists = [list(some) for many in range(len(others) + 1) for some in itertools.combinations(others, many)]
-    return sorted(lists, key=lambda some: (len(some), some))
-
-
-def flags_in_all(locker, halyards):
-    many = Counter(flag for hoist in halyards if hoist is not None for flag in hoist)
-    many.update(locker)
-    return {flag: many[flag] for flag in FLAGS if many[flag] > 0}
-
-
-def tried(locker, halyards, number, word, lowered):
-    """The locker and the words that point 19 names for a set."""
-    down = [halyards[other] for other in [number] + lowered]
-    words = [word] + [word_of(halyards[other]) for other in lowered]
-    return flags_in_all(locker, down), words
-
-
-def sought(locker, halyards, number, word):
-    """The least set that does, sought through all sets and all choices; None where there is none."""
-    for lowered in sets_of_others(halyards, number):
-        if hangs(*tried(locker, halyards, number, word, lowered)):
-            return lowered
-    return None
-
-
-def hoist_by_chance(chance, word):
-    return [chance.choice(choices) for choices in choices_for(word)]
 
 
 class HalyardsCase(unittest.TestCase):
