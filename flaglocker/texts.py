@@ -61,9 +61,8 @@ def read_halyard(text):
     return list(text)
 
 
+# The text without signs falls to read_halyard: halyards are at least one, and none of them is written without signs.
 def read_halyards(text):
-    if text == "":
-        return []
     halyards = [read_halyard(part) for part in text.split(" ")]
     if len(halyards) > MOST_HALYARDS:
         raise NoText("these are more than six halyards")

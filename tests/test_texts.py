@@ -148,8 +148,16 @@ class Halyards(TextCase):
         for many in range(1, 7):
             self.check_halyards([None] * many, " ".join("-" * many))
 
-    def test_none(self):
-        self.check_halyards([], "")
+    def test_the_text_without_signs(self):
+        self.check_no_halyards("")
+        self.check_read(read_halyards, "-", [None])
+        self.check_read(read_locker, "", {})
+
+    def test_a_halyard_without_signs_among_others(self):
+        for many in range(2, 8):
+            for at, other in itertools.product(range(many), ("-", "a", "ab1")):
+                self.check_no_halyards(" ".join([other] * at + [""] + [other] * (many - at - 1)))
+            self.check_no_halyards(" ".join([""] * many))
 
     def test_one_to_six(self):
         for many in range(1, 7):
@@ -202,9 +210,7 @@ class Halyards(TextCase):
         told[0].append("w")
         told.append(None)
         self.assertEqual(told[2], ["a", "b", "1"])
-        read_halyards("").append(None)
         self.assertEqual(read_halyards("ab1 - ab1"), [["a", "b", "1"], None, ["a", "b", "1"]])
-        self.assertEqual(read_halyards(""), [])
 
 
 class Books(TextCase):
